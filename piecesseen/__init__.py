@@ -1,0 +1,1 @@
+"""Piecesseen: languages judged by the short pieces of their texts."""
