@@ -4,6 +4,8 @@
 whose bit with the number of a state tells whether it is in the set.
 """
 
+from piecesseen.machines import is_dead
+
 
 def set_behind(steps, held):
     """For each letter the set of all targets of the states in a set."""
@@ -39,9 +41,8 @@ def bits_of(rows, ends, shift):
     A dead state gives the empty set: it adds nothing to a set but would make more of them.
     """
     bits = []
-    for state, row in enumerate(rows):
-        is_dead = state not in ends and row.count(state) == len(row)
-        bits.append(0 if is_dead else 1 << (shift + state))
+    for state in range(len(rows)):
+        bits.append(0 if is_dead(rows, ends, state) else 1 << (shift + state))
     return bits
 
 

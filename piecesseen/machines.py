@@ -34,6 +34,11 @@ def end_flags(many, ends):
     return flags
 
 
+def is_dead(rows, ends, state):
+    """Whether a state of a least machine is dead: there is only one such state, so it leads to itself alone."""
+    return state not in ends and rows[state].count(state) == len(rows[state])
+
+
 def state_behind(letters, rows, state, text):
     """The state to which a text leads from a state."""
     for letter in text:

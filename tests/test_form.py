@@ -17,6 +17,21 @@ INTERFACE = {
         "finite": ["letters", "*texts"], "having": ["letters", "piece", "least=1"], "beginning": ["letters", "text"],
         "ending": ["letters", "text"], "lengths": ["letters", "period", "rests"],
     },
+    "views": {
+        "pieces_of": ["width", "text"], "view_of": ["width", "top", "text"],
+        "view_behind": ["width", "top", "view", "letter"], "joined": ["width", "top", "view", "other"],
+        "repeated": ["width", "top", "view", "many"], "views": ["letters", "width", "top"],
+        "first_text": ["letters", "width", "top", "view"], "view_holds": ["letters", "width", "top", "thing"],
+    },
+    "forbidding": {
+        "is_judge": ["letters", "thing"], "accepts": ["judge", "text"], "language_of": ["letters", "judge"],
+        "learned": ["width", "*texts"], "judge_of": ["language", "width"], "least_forbidding": ["language"],
+    },
+    "occurring": {"is_occurring": ["language", "width"], "least_occurring": ["language"]},
+    "counting": {
+        "is_counting": ["language", "width", "top"], "table_of": ["language", "width", "top"],
+        "corners": ["language", "most_width", "most_top"],
+    },
 }
 METHODS = {
     "Language": {
@@ -147,6 +162,20 @@ class FormTest(unittest.TestCase):
         for name, node in nodes(ast.Name):
             if node.id not in bound and node.id not in ("classmethod", "property", "staticmethod"):
                 self.assertIn(node.id, BUILTINS, (name, node.lineno))
+
+    def test_what_is_sorted(self):
+        # Languages are compared by <=, so only what is plainly no language may be sorted.
+        for name, node in nodes(ast.Call):
+            if isinstance(node.func, ast.Name) and node.func.id in ("sorted", "min", "max"):
+                by_length = [ast.unparse(keyword) for keyword in node.keywords] == ["key=len"]
+                self.assertTrue(by_length or ast.unparse(node.args[0]).startswith("set("), (name, node.lineno))
+
+    def test_generators(self):
+        found = [node for _, node in nodes(ast.FunctionDef)]
+        generators = [node.name for node in found if any(isinstance(part, ast.Yield) for part in ast.walk(node))]
+        for name in generators:
+            self.assertEqual([node.name for node in found].count(name), 1)
+            self.assertNotIn(name, VALUE_METHODS)
 
     def test_methods_that_are_called(self):
         own = {node.name for _, node in nodes(ast.FunctionDef)}

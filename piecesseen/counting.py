@@ -1,0 +1,63 @@
+"""Judges that count pieces."""
+
+from piecesseen.errors import Unjudged
+from piecesseen.pairs import telling_apart
+from piecesseen.views import view_behind
+
+
+def states_of_views(language, width, top):
+    """(states, clash): the state of each view, and None, or two texts with one view and the two states of these texts.
+
+    A clash ends the search. Without one the state of each text is told by its view, letter by letter.
+    """
+    waiting = [("short", "")]
+    texts = {("short", ""): ""}
+    states = {("short", ""): 0}
+    at = 0
+    while at < len(waiting):
+        view = waiting[at]
+        row = language.rows[states[view]]
+        for letter, target in zip(language.letters, row):
+            found = view_behind(width, top, view, letter)
+            text = texts[view] + letter
+            if found not in states:
+                states[found] = target
+                texts[found] = text
+                waiting.append(found)
+            elif states[found] != target:
+                return states, (texts[found], text, states[found], target)
+        at += 1
+    return states, None
+
+
+def is_counting(language, width, top):
+    """Whether a language is judged by counts with (k, t)."""
+    _, clash = states_of_views(language, width, top)
+    return clash is None
+
+
+def table_of(language, width, top):
+    """The table with the state of each view with (k, t)."""
+    states, clash = states_of_views(language, width, top)
+    if clash is not None:
+        text, other, state, other_state = clash
+        end = telling_apart(language, state, other_state)
+        if text + end in language:
+            raise Unjudged((text + end, other + end))
+        raise Unjudged((other + end, text + end))
+    return tuple([(view, states[view]) for view in sorted(set(states))])
+
+
+def corners(language, most_width, most_top):
+    """The pairs (k, t) up to these numbers with which a language is judged by counts, but with none that is less."""
+    found = []
+    top = most_top
+    for width in range(1, most_width + 1):
+        least = None
+        # With a greater k it is judged with each t with which it was; so only smaller ones are still asked for.
+        while top >= 1 and is_counting(language, width, top):
+            least = top
+            top -= 1
+        if least is not None:
+            found.append((width, least))
+    return tuple(found)

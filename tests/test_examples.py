@@ -1,0 +1,66 @@
+"""The examples of the document that call the modules of views and of the three kinds of judges."""
+
+import unittest
+
+from judged import is_paper
+from piecesseen.counting import corners, is_counting, table_of
+from piecesseen.errors import NoJudge, Unjudged
+from piecesseen.forbidding import judge_of, least_forbidding
+from piecesseen.languages import Language
+from piecesseen.makers import having
+from piecesseen.occurring import is_occurring, least_occurring
+from piecesseen.views import joined, view_of
+from plain import PlainCase
+
+
+class ExamplesTest(PlainCase):
+    def test_views(self):
+        self.assertEqual(view_of(2, 2, "abab"), ("long", "a", "b", (("ab", 2), ("ba", 1))))
+        self.assertEqual(view_of(3, 1, "ab"), ("short", "ab"))
+        self.assertEqual(view_of(1, 2, "aaab"), ("long", "", "", (("a", 2), ("b", 1))))
+
+    def test_joined(self):
+        self.assertEqual(joined(2, 2, view_of(2, 2, "ab"), view_of(2, 2, "ba")), view_of(2, 2, "abba"))
+        self.assertEqual(view_of(2, 2, "abba"), ("long", "a", "a", (("ab", 1), ("ba", 1), ("bb", 1))))
+
+    def test_no_b_behind_a_b(self):
+        language = ~having("ab", "bb")
+        self.assertEqual(least_forbidding(language), 2)
+        self.assertEqual(judge_of(language, 2), (2, ("", "a", "b"), ("a", "b"), ("a", "b"), ("aa", "ab", "ba")))
+
+    def test_some_b(self):
+        language = having("ab", "b")
+        with self.assertRaises(NoJudge) as caught:
+            least_forbidding(language)
+        self.assertTrue(is_paper(language, caught.exception.paper))
+        self.assertEqual(least_occurring(language), 1)
+
+    def test_two_b(self):
+        language = having("ab", "b", 2)
+        self.assertTrue(is_counting(language, 1, 2))
+        with self.assertRaises(NoJudge) as caught:
+            least_occurring(language)
+        self.assertTrue(is_paper(language, caught.exception.paper))
+        self.assertFalse(is_occurring(language, 1) or is_occurring(language, 6))
+
+    def test_an_even_number_of_b(self):
+        language = Language("ab", ((0, 1), (1, 0)), (0,))
+        self.assertRaises(NoJudge, least_forbidding, language)
+        self.assertRaises(NoJudge, least_occurring, language)
+        for width, top in ((1, 20), (2, 3), (3, 2)):
+            self.assertFalse(is_counting(language, width, top))
+            self.assertRaises(Unjudged, table_of, language, width, top)
+
+    def test_some_a_ahead_of_some_b(self):
+        language = Language("abc", ((1, 0, 0), (1, 2, 1), (2, 2, 2)), (2,))
+        self.assertEqual(("acb" in language, "bcac" in language, "ccab" in language), (True, False, True))
+        self.assertEqual((corners(language, 1, 16), corners(language, 2, 1)), ((), ()))
+
+    def test_the_watched_example_looks_the_same(self):
+        # Of the pair of the last example only the counts differ, and "b" is told whole.
+        self.assertEqual(view_of(2, 1, "bb")[:3], view_of(2, 1, "bab")[:3])
+        self.assertEqual(view_of(2, 1, "b"), ("short", "b"))
+
+
+if __name__ == "__main__":
+    unittest.main()
