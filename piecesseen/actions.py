@@ -1,5 +1,7 @@
 """The actions of a least machine: for each state the one to which a text leads that is not empty."""
 
+from piecesseen.pairs import telling_apart
+
 
 def one_by_one(action, other):
     """The action that does one action and then another one."""
@@ -23,3 +25,9 @@ def actions_of(letters, rows):
                 waiting.append(found)
         at += 1
     return texts
+
+
+def differing(language, texts, one, other):
+    """Two texts (x, y) such that just one of two different actions leads from behind x by y to an end."""
+    state = [target == other_target for target, other_target in zip(one, other)].index(False)
+    return texts[state], telling_apart(language, one[state], other[state])

@@ -5,10 +5,18 @@ from piecesseen.pairs import telling_apart
 from piecesseen.views import view_behind
 
 
-def states_of_views(language, width, top):
+def seen_part(view, watched):
+    """What is seen of a view if only the watched pieces are counted; all are if `watched` is None."""
+    if watched is None or view[0] == "short":
+        return view
+    return view[:3] + (tuple([pair for pair in view[3] if pair[0] in watched]),)
+
+
+def states_of_views(language, width, top, watched=None):
     """(states, clash): the state of each view, and None, or two texts with one view and the two states of these texts.
 
     A clash ends the search. Without one the state of each text is told by its view, letter by letter.
+    Views are taken with the watched pieces alone, or whole if `watched` is None.
     """
     waiting = [("short", "")]
     texts = {("short", ""): ""}
@@ -18,7 +26,7 @@ def states_of_views(language, width, top):
         view = waiting[at]
         row = language.rows[states[view]]
         for letter, target in zip(language.letters, row):
-            found = view_behind(width, top, view, letter)
+            found = seen_part(view_behind(width, top, view, letter), watched)
             text = texts[view] + letter
             if found not in states:
                 states[found] = target
@@ -28,6 +36,15 @@ def states_of_views(language, width, top):
                 return states, (texts[found], text, states[found], target)
         at += 1
     return states, None
+
+
+def pair_of(language, clash):
+    """Two texts with the same view, the first one in the language, the second one not, from a clash."""
+    text, other, state, other_state = clash
+    end = telling_apart(language, state, other_state)
+    if text + end in language:
+        return text + end, other + end
+    return other + end, text + end
 
 
 def is_counting(language, width, top):
@@ -40,11 +57,7 @@ def table_of(language, width, top):
     """The table with the state of each view with (k, t)."""
     states, clash = states_of_views(language, width, top)
     if clash is not None:
-        text, other, state, other_state = clash
-        end = telling_apart(language, state, other_state)
-        if text + end in language:
-            raise Unjudged((text + end, other + end))
-        raise Unjudged((other + end, text + end))
+        raise Unjudged(pair_of(language, clash))
     return tuple([(view, states[view]) for view in sorted(set(states))])
 
 

@@ -17,7 +17,8 @@ def is_letters(thing):
 
 def is_text(letters, thing):
     """Whether any value is a text over letters."""
-    return isinstance(thing, str) and all([sign in letters for sign in thing])
+    # What is stripped of all its letters is empty exactly if it has no other signs.
+    return isinstance(thing, str) and thing.strip(letters) == ""
 
 
 def letters_in(line):

@@ -1,8 +1,8 @@
 """Judges that know which pieces occur."""
 
-from piecesseen.actions import actions_of, one_by_one
+from piecesseen.actions import actions_of, differing, one_by_one
 from piecesseen.errors import NoJudge
-from piecesseen.pairs import telling_apart, texts_to_states
+from piecesseen.pairs import texts_to_states
 from piecesseen.words import words_led
 
 
@@ -48,12 +48,6 @@ def is_occurring(language, width):
         if not all([agree(loop, other) for at, loop in enumerate(loops) for other in loops[:at]]):
             return False
     return True
-
-
-def differing(language, texts, one, other):
-    """Two texts (x, y) such that just one of two different actions leads from behind x by y to an end."""
-    state = [target == other_target for target, other_target in zip(one, other)].index(False)
-    return texts[state], telling_apart(language, one[state], other[state])
 
 
 def paper_around(language, texts, text, inner):

@@ -118,16 +118,22 @@ def is_word(letters, length, thing):
     return is_text(letters, thing) and len(thing) == length
 
 
-def view_holds(letters, width, top, thing):
-    """Whether any value is a view of a text over the letters."""
+def has_view_form(letters, width, top, thing):
+    """Whether any value is made like a view of a text over the letters, be there such a text or not."""
     if not isinstance(thing, tuple):
         return False
     if len(thing) == 2:
         return thing[0] == "short" and is_text(letters, thing[1]) and len(thing[1]) < width
     if len(thing) != 4 or thing[0] != "long" or not is_counts(letters, width, top, thing[3]):
         return False
-    _, first, last, pairs = thing
-    return is_word(letters, width - 1, first) and is_word(letters, width - 1, last) and is_walk(first, last, pairs, top)
+    return is_word(letters, width - 1, thing[1]) and is_word(letters, width - 1, thing[2])
+
+
+def view_holds(letters, width, top, thing):
+    """Whether any value is a view of a text over the letters."""
+    if not has_view_form(letters, width, top, thing):
+        return False
+    return thing[0] == "short" or is_walk(thing[1], thing[2], thing[3], top)
 
 
 def is_within(view, numbers):

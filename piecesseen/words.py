@@ -1,4 +1,4 @@
-"""The words of so many letters, and to which states they lead."""
+"""The words of k letters: to which states they lead, and the tuples of some of them."""
 
 
 def words_led(letters, rows, length):
@@ -11,3 +11,16 @@ def words_led(letters, rows, length):
                 longer[word + letter] = tuple([rows[state][at] for state in states])
         led = longer
     return led
+
+
+def words_of(letters, length):
+    """All words of so many letters, ascending."""
+    return list(words_led(letters, (), length))
+
+
+def tuples_of(words, many):
+    """All ascending tuples of so many of some ascending words, ascending."""
+    found = [()]
+    for _ in range(many):
+        found = [chosen + (word,) for chosen in found for word in words if len(chosen) == 0 or chosen[-1] < word]
+    return found

@@ -46,8 +46,36 @@ def plain_least_judge(letters, held, width):
             tuple(word for word in words(letters, width) if any(word in text for text in longer)))
 
 
-def plain_states(language, width, top):
-    """The state of each view by the view's first text, or None if some view has two states."""
+def in_order(held):
+    return tuple(sorted(held, key=lambda text: (len(text), text)))
+
+
+def plain_is_judge(letters, thing):
+    """Whether a value is a forbidding judge, item by item, with classes instead of isinstance."""
+    if thing.__class__ is not tuple or [part.__class__ for part in thing] != [int, tuple, tuple, tuple, tuple]:
+        return False
+    width, short, *rest = thing
+    if any(text.__class__ is not str or text.strip(letters) for part in thing[1:] for text in part) or width < 1:
+        return False
+    if short != in_order(set(short)) or any(len(text) >= width for text in short):
+        return False
+    return all(part == tuple(sorted(set(part))) and {len(word) for word in part} <= {length}
+               for part, length in zip(rest, (width - 1, width - 1, width)))
+
+
+def drawn_judges(letters, seed, many):
+    """Judges with any entries, also with some to which no accepted text comes."""
+    chance = random.Random(seed)
+    for _ in range(many):
+        width = chance.randint(1, 4 if len(letters) < 3 else 3)
+        rate = chance.choice((0.2, 0.5, 0.8))
+        shorter = [word for length in range(width) for word in words(letters, length)]
+        yield (width, *[tuple(word for word in held if chance.random() < rate) for held in (
+            shorter, words(letters, width - 1), words(letters, width - 1), words(letters, width))])
+
+
+def plain_states(language, width, top, most=10 ** 6):
+    """The state of each view by the view's first text, or None if some view has two states or there are more views."""
     states = {("short", ""): 0}
     waiting = [""]
     for text in waiting:
@@ -56,49 +84,9 @@ def plain_states(language, width, top):
             state = run(language.letters, language.rows, 0, text + letter)
             if view not in states:
                 waiting.append(text + letter)
-            if states.setdefault(view, state) != state:
+            if states.setdefault(view, state) != state or len(states) > most:
                 return None
     return states
-
-
-def texts_for(paper, n):
-    """The texts of a paper for n."""
-    if paper[0] == "splice":
-        _, x, y, z, w, e = paper
-        return x + e * n + y, z + e * n + w, x + e * n + w
-    if paper[0] == "again":
-        _, x, e, s, y = paper
-        return x + e * n + s + e * n + y, x + e * n + s + e * n + s + e * n + y
-    _, x, e, s, t, y = paper
-    return x + e * n + s + e * n + t + e * n + y, x + e * n + t + e * n + s + e * n + y
-
-
-def are_twins(language, paper, n):
-    """Whether the texts of a paper for n are answered as point 8 says."""
-    answers = [text in language for text in texts_for(paper, n)]
-    return answers == [True, True, False] if paper[0] == "splice" else answers[0] != answers[1]
-
-
-def round_of(language, text):
-    """(start, stop) such that the powers of a text from start on lead as those from stop on do, for every state."""
-    lead = tuple(run(language.letters, language.rows, state, text) for state in range(len(language)))
-    power = tuple(range(len(language)))
-    seen = {}
-    while power not in seen:
-        seen[power] = len(seen)
-        power = tuple(lead[state] for state in power)
-    return seen[power], len(seen)
-
-
-def is_paper(language, paper):
-    """Whether a value is a paper that a language is not judged by forbidding, or not by occurrences."""
-    forms = {"splice": 6, "again": 5, "order": 6}
-    if not isinstance(paper, tuple) or forms.get(paper[0]) != len(paper):
-        return False
-    if not all(isinstance(part, str) and set(part) <= set(language.letters) for part in paper[1:]):
-        return False
-    power = paper[5] if paper[0] == "splice" else paper[2]
-    return power != "" and any(are_twins(language, paper, n) for n in range(*round_of(language, power)))
 
 
 def actions(language):

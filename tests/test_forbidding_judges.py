@@ -3,7 +3,7 @@
 import random
 import unittest
 
-from judged import conditions, otherwise, plain_accepts, plain_least_judge, words
+from judged import (conditions, drawn_judges, otherwise, plain_accepts, plain_is_judge, plain_least_judge, words)
 from piecesseen.errors import BadView
 from piecesseen.forbidding import accepts, is_judge, judge_of, language_of, learned
 from piecesseen.languages import Language
@@ -12,34 +12,6 @@ from plain import ODD_STRINGS, PlainCase, languages, odd_values, texts
 
 SOME = (2, ("", "a", "b"), ("a", "b"), ("a", "b"), ("aa", "ab", "ba"))
 GREAT = 10 ** 39 + 7
-
-
-def in_order(held):
-    return tuple(sorted(held, key=lambda text: (len(text), text)))
-
-
-def plain_is_judge(letters, thing):
-    """Whether a value is a forbidding judge, item by item, with classes instead of isinstance."""
-    if thing.__class__ is not tuple or [part.__class__ for part in thing] != [int, tuple, tuple, tuple, tuple]:
-        return False
-    width, short, *rest = thing
-    if any(text.__class__ is not str or text.strip(letters) for part in thing[1:] for text in part) or width < 1:
-        return False
-    if short != in_order(set(short)) or any(len(text) >= width for text in short):
-        return False
-    return all(part == tuple(sorted(set(part))) and {len(word) for word in part} <= {length}
-               for part, length in zip(rest, (width - 1, width - 1, width)))
-
-
-def drawn_judges(letters, seed, many):
-    """Judges with any entries, also with some to which no accepted text comes."""
-    chance = random.Random(seed)
-    for _ in range(many):
-        width = chance.randint(1, 4 if len(letters) < 3 else 3)
-        rate = chance.choice((0.2, 0.5, 0.8))
-        shorter = [word for length in range(width) for word in words(letters, length)]
-        yield (width, *[tuple(word for word in held if chance.random() < rate) for held in (
-            shorter, words(letters, width - 1), words(letters, width - 1), words(letters, width))])
 
 
 class IsJudgeTest(PlainCase):

@@ -2,6 +2,7 @@
 
 import ast
 import builtins
+import importlib
 import os
 import unittest
 
@@ -32,6 +33,18 @@ INTERFACE = {
         "is_counting": ["language", "width", "top"], "table_of": ["language", "width", "top"],
         "corners": ["language", "most_width", "most_top"],
     },
+    "verdicts": {
+        "verdict": ["language", "kind"], "verdict_holds": ["language", "kind", "thing"], "is_of": ["language", "kind"],
+        "twins": ["language", "paper", "width", "top=1"],
+    },
+    "shadows": {
+        "shadow": ["language", "width", "top=1"], "core": ["language", "width", "top=1"],
+        "common_view": ["one", "other", "width", "top=1"],
+    },
+    "watching": {
+        "is_enough": ["language", "width", "top", "pieces"], "fewest_watched": ["language", "width", "top"],
+        "watching_holds": ["language", "width", "top", "thing"],
+    },
 }
 METHODS = {
     "Language": {
@@ -41,6 +54,8 @@ METHODS = {
         "read": ["text"],
     },
 }
+PROPERTIES = {}
+LIBRARY = {"math": ("lcm",)}
 BUILTINS = set((
     "len range enumerate zip min max sum abs sorted reversed int str bool list tuple dict set isinstance ord repr any "
     "all divmod pow iter next map Exception ValueError TypeError KeyError IndexError LookupError ZeroDivisionError "
@@ -108,6 +123,15 @@ class InterfaceTest(unittest.TestCase):
                 self.assertIn(name, found)
                 if names is not None:
                     self.assertEqual(parameters(found[name])[1:], names)
+            for name, part in found.items():
+                decorators = [ast.unparse(decorator) for decorator in part.decorator_list]
+                self.assertEqual("property" in decorators, name in PROPERTIES.get(node.name, ()), (node.name, name))
+
+    def test_each_name_is_defined_where_it_is_listed(self):
+        for module, wanted in INTERFACE.items():
+            imported = importlib.import_module("piecesseen." + module)
+            for name in wanted:
+                self.assertEqual(getattr(imported, name).__module__, "piecesseen." + module)
 
 
 class FormTest(unittest.TestCase):
@@ -124,6 +148,11 @@ class FormTest(unittest.TestCase):
         known = {name: definitions(tree) for name, tree in trees().items()}
         imported = {name: [] for name in known}
         for name, node in nodes(ast.ImportFrom):
+            if node.module in LIBRARY:
+                for alias in node.names:
+                    self.assertIn(alias.name, LIBRARY[node.module])
+                    self.assertIsNone(alias.asname)
+                continue
             package, _, module = node.module.partition(".")
             self.assertEqual((package, node.level), ("piecesseen", 0), name)
             imported[name].append(module + ".py")
@@ -149,7 +178,7 @@ class FormTest(unittest.TestCase):
 
     def test_names(self):
         bound = set()
-        for name, node in nodes((ast.Name, ast.arg, ast.FunctionDef, ast.ClassDef, ast.alias)):
+        for name, node in nodes((ast.Name, ast.arg, ast.FunctionDef, ast.ClassDef, ast.alias, ast.ExceptHandler)):
             if isinstance(node, ast.Name):
                 found = node.id if isinstance(node.ctx, ast.Store) else None
             else:

@@ -3,7 +3,8 @@
 import random
 import unittest
 
-from judged import actions, is_paper
+from judged import actions
+from papers_plain import is_paper
 from piecesseen.counting import corners, is_counting, table_of
 from piecesseen.errors import BadView, NoJudge, Unjudged
 from piecesseen.forbidding import judge_of, language_of, least_forbidding

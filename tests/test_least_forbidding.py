@@ -3,7 +3,8 @@
 import itertools
 import unittest
 
-from judged import are_twins, conditions, drawn, is_paper, plain_least_judge, texts_for, words
+from judged import conditions, drawn, plain_least_judge, words
+from papers_plain import are_twins, is_paper, texts_for
 from piecesseen.errors import NoJudge
 from piecesseen.forbidding import accepts, is_judge, judge_of, language_of, learned, least_forbidding
 from piecesseen.languages import Language

@@ -2,7 +2,8 @@
 
 import unittest
 
-from judged import actions, are_twins, conditions, drawn, is_paper, plain_states, plain_view, texts_for
+from judged import actions, conditions, drawn, plain_states, plain_view
+from papers_plain import are_twins, is_paper, texts_for
 from piecesseen.counting import is_counting
 from piecesseen.errors import NoJudge
 from piecesseen.languages import Language
