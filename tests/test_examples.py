@@ -5,6 +5,7 @@ import unittest
 from papers_plain import is_paper, texts_for
 from piecesseen.counting import corners, is_counting, table_of
 from piecesseen.errors import NoJudge, Unjudged
+from piecesseen.findings import finding_holds
 from piecesseen.forbidding import judge_of, least_forbidding
 from piecesseen.languages import Language
 from piecesseen.makers import finite, having
@@ -81,6 +82,7 @@ class ExamplesTest(PlainCase):
                 (ahead, "counting", ("exchange", "", "c", "a", "c", "", "b", ""))):
             self.assertIs(verdict_holds(language, kind, paper), True)
             self.assertNotEqual(verdict(language, kind)[0], kind)
+            self.assertIs(finding_holds(("unjudged", str(language), kind, paper)), True)
             self.assertEqual(twins(language, paper, 2, 1), texts_for(paper, 3))
         for kind, paper in (("forbidding", ("splice", "", "b", "b", "", "b")),
                             ("occurring", ("again", "", "b", "b", "")),

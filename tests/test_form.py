@@ -45,6 +45,10 @@ INTERFACE = {
         "is_enough": ["language", "width", "top", "pieces"], "fewest_watched": ["language", "width", "top"],
         "watching_holds": ["language", "width", "top", "thing"],
     },
+    "judges": {"Judge": ["language", "width", "top=1"], "Stream": ["judge"]},
+    "kept": {"Kept": ["letters", "width", "top=1", "text=''"]},
+    "findings": {"finding_holds": ["thing"]},
+    "console": {"Console": []},
 }
 METHODS = {
     "Language": {
@@ -53,8 +57,15 @@ METHODS = {
         "turned": [], "behind": ["text"], "with_letters": ["letters"], "in_order": [], "many_of": ["length"],
         "read": ["text"],
     },
+    "Judge": {"__call__": ["text"], "at": ["view"]},
+    "Stream": {"saw": ["letter"], "back": [], "followed": ["other"], "view": [], "answer": [], "length": []},
+    "Kept": {
+        "text": [], "view": [], "__len__": [], "__getitem__": None, "put": ["place", "text"], "cut": ["start", "stop"],
+        "undo": [],
+    },
+    "Console": {"say": ["command"]},
 }
-PROPERTIES = {}
+PROPERTIES = {"Stream": ("view", "answer", "length"), "Kept": ("text", "view")}
 LIBRARY = {"math": ("lcm",)}
 BUILTINS = set((
     "len range enumerate zip min max sum abs sorted reversed int str bool list tuple dict set isinstance ord repr any "
