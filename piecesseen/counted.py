@@ -1,31 +1,43 @@
-"""Whether a language is judged by counts with some numbers, found by its actions, and such numbers."""
+"""Whether a language is judged by counts at all, found by its actions, and with which numbers."""
 
 from piecesseen.actions import actions_of, differing, one_by_one
-from piecesseen.counting import is_counting, table_of
 from piecesseen.pairs import texts_to_states
-
-# For each number of letters, k with the greatest t from 1 to 20 for which there are at most 5,000 views.
-NUMBERS = {1: ((1, 20),), 2: ((1, 20), (2, 9), (3, 2)), 3: ((1, 16), (2, 1)), 4: ((1, 7),)}
-
-
-def power_paper(language, actions, texts):
-    """A paper "power" that a language is not judged by counts, or None if each action has a power equal to the next."""
-    for action, s in actions.items():
-        power = action
-        # With as many powers as there are states, the way from each state has come round.
-        for _ in range(len(language.rows)):
-            power = one_by_one(power, action)
-        longer = one_by_one(power, action)
-        if longer != power:
-            x, y = differing(language, texts, power, longer)
-            return "power", x, s, y
-    return None
+from piecesseen.rounds import rounds_done
+from piecesseen.tallies import table_by_walk
 
 
 def product_table(actions):
     """For each two actions, by their numbers, the number of the action that does one and then the other."""
     numbers = {action: number for number, action in enumerate(actions)}
-    return [[numbers[one_by_one(action, other)] for other in actions] for action in actions]
+    places = {text: number for number, text in enumerate(actions.values())}
+    single = {text: action for action, text in actions.items() if len(text) == 1}
+    behind = [{letter: numbers[one_by_one(action, other)] for letter, other in single.items()} for action in actions]
+    # The text of an action without its last letter is the text of an earlier one.
+    ways = [(places.get(text[:-1]), text[-1]) for text in places]
+    table = []
+    for number in range(len(behind)):
+        row = []
+        for ahead, letter in ways:
+            row.append(behind[number if ahead is None else row[ahead]][letter])
+        table.append(row)
+    return table
+
+
+def power_paper(language, actions, table, texts):
+    """A paper "power" that a language is not judged by counts, or None if each action has a power equal to the next."""
+    by_number = list(actions)
+    for number, s in enumerate(actions.values()):
+        power = number
+        times = 1
+        # With as many times as there are states, the way from each state has come round.
+        while times < len(language.rows):
+            power = table[power][power]
+            times = 2 * times
+        longer = table[power][number]
+        if longer != power:
+            x, y = differing(language, texts, by_number[power], by_number[longer])
+            return "power", x, s, y
+    return None
 
 
 def product_of(table, numbers):
@@ -56,9 +68,8 @@ def exchanged(table, e, f):
     return None
 
 
-def exchange_paper(language, actions, texts):
+def exchange_paper(language, actions, table, texts):
     """A paper "exchange" that a language is not judged by counts, or None if there is none."""
-    table = product_table(actions)
     numbers = [number for number in range(len(table)) if table[number][number] == number]
     by_number = list(actions)
     for e in numbers:
@@ -77,30 +88,22 @@ def exchange_paper(language, actions, texts):
 def paper_against_counts(language):
     """A paper that a language is not judged by counts with any numbers, or None if it is with some."""
     actions = actions_of(language.letters, language.rows)
+    table = product_table(actions)
     texts = texts_to_states(language.letters, language.rows)
-    paper = power_paper(language, actions, texts)
+    paper = power_paper(language, actions, table, texts)
     if paper is not None:
         return paper
-    return exchange_paper(language, actions, texts)
-
-
-def numbers_tried(letters):
-    """Yields pairs of k and t. A language that is judged by counts is so with some of them, mostly one of the first."""
-    for width, top in NUMBERS[len(letters)]:
-        yield width, top
-    total = 2
-    while True:
-        for width in range(1, total):
-            yield width, total - width
-        total += 1
+    return exchange_paper(language, actions, table, texts)
 
 
 def counting_paper(language):
-    """A paper with a table, for a language that is judged by counts with some numbers: with the least t for its k."""
-    for width, most in numbers_tried(language.letters):
-        if is_counting(language, width, most):
-            top = 1
-            while not is_counting(language, width, top):
-                top += 1
-            return "counting", width, top, table_of(language, width, top)
-    return None
+    """A paper with a table, for a language that is judged by counts: with the least k, and the least t for this k."""
+    width = 1
+    while True:
+        times = rounds_done(language, width)
+        if times is not None:
+            for top in range(times if times > 0 else 1, times + 2):
+                table = table_by_walk(language, width, top)
+                if table is not None:
+                    return "counting", width, top, table
+        width += 1

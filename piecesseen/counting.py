@@ -2,6 +2,7 @@
 
 from piecesseen.errors import Unjudged
 from piecesseen.pairs import telling_apart
+from piecesseen.tallies import states_by_number, table_by_walk
 from piecesseen.views import view_behind
 
 
@@ -49,16 +50,16 @@ def pair_of(language, clash):
 
 def is_counting(language, width, top):
     """Whether a language is judged by counts with (k, t)."""
-    _, clash = states_of_views(language, width, top)
-    return clash is None
+    return states_by_number(language, width, top) is not None
 
 
 def table_of(language, width, top):
     """The table with the state of each view with (k, t)."""
-    states, clash = states_of_views(language, width, top)
-    if clash is not None:
+    table = table_by_walk(language, width, top)
+    if table is None:
+        _, clash = states_of_views(language, width, top)
         raise Unjudged(pair_of(language, clash))
-    return tuple([(view, states[view]) for view in sorted(set(states))])
+    return table
 
 
 def corners(language, most_width, most_top):

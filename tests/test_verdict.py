@@ -1,17 +1,15 @@
 """verdict and is_of, beside the kinds as actions tell them, and beside judges with smaller numbers."""
 
-import itertools
 import unittest
 
 from asked import EXAMPLES, answered
 from judged import plain_states
 from papers_plain import AGAINST, KINDS, plain_against, plain_for, plain_kinds, plain_table, same, texts_for
-from piecesseen.counted import NUMBERS
 from piecesseen.counting import is_counting
 from piecesseen.forbidding import accepts, judge_of, language_of, learned
 from piecesseen.makers import finite, having, lengths
 from piecesseen.verdicts import is_of, verdict
-from piecesseen.views import view_of, views
+from piecesseen.views import view_of
 from plain import PlainCase, texts
 
 
@@ -74,17 +72,6 @@ class VerdictTest(PlainCase):
                 _, width, top, table = paper
                 self.assertTrue(same(table, plain_table(language, width, top)))
                 self.assertTrue(top == 1 or not is_counting(language, width, top - 1))
-
-    def test_the_numbers_that_are_tried(self):
-        letters = "abcd"
-        for many, tried in NUMBERS.items():
-            for width, top in tried:
-                self.assertLessEqual(len(list(views(letters[:many], width, top))), 5000)
-                more = list(itertools.islice(views(letters[:many], width, top + 1), 5001))
-                self.assertTrue(top == 20 or len(more) == 5001)
-            if many > 1:
-                wider = max(width for width, _ in tried) + 1
-                self.assertEqual(len(list(itertools.islice(views(letters[:many], wider, 1), 5001))), 5001)
 
     def test_papers_against_a_kind_bear_twins(self):
         for _, kind, paper in answered(201):
